@@ -1,0 +1,1 @@
+"""Meetings laid on a day's sheet."""
