@@ -1,6 +1,7 @@
 """The form of the package's files: those rules of the language that can be seen file by file."""
 
 import ast
+import builtins
 import pathlib
 import re
 import unittest
@@ -48,6 +49,28 @@ def bound_names(tree):
             names.append(node.id)
         elif isinstance(node, ast.ExceptHandler) and node.name:
             names.append(node.name)
+    return names
+
+
+def local_names(tree):
+    names = []
+    for part in ast.walk(tree):
+        if isinstance(part, (ast.FunctionDef, ast.Lambda)):
+            names += [node.arg for node in ast.walk(part) if isinstance(node, ast.arg)]
+            stored = [node for node in ast.walk(part) if isinstance(node, ast.Name) and isinstance(node.ctx, ast.Store)]
+            names += [node.id for node in stored]
+    return names
+
+
+def top_names(tree):
+    names = []
+    for part in tree.body:
+        if isinstance(part, (ast.FunctionDef, ast.ClassDef)):
+            names.append(part.name)
+        elif isinstance(part, ast.ImportFrom):
+            names += [alias.name for alias in part.names]
+        elif isinstance(part, ast.Assign):
+            names.append(part.targets[0].id)
     return names
 
 
@@ -127,6 +150,38 @@ class FormTest(unittest.TestCase):
                     self.assertNotIn(word, OWN_NAMES)
                 read = {node.id for node in ast.walk(tree) if isinstance(node, ast.Name)}
                 self.assertEqual(read - set(bound) - OWN_NAMES, set())
+
+    def test_names_have_one_meaning(self):
+        for name, tree in self.trees.items():
+            top = top_names(tree)
+            with self.subTest(file=name):
+                self.assertEqual(len(top), len(set(top)))
+                self.assertEqual(set(local_names(tree)) & set(top + dir(builtins)), set())
+
+    def test_sets_are_not_kept(self):
+        for where, node in self.nodes((ast.Call, ast.Compare)):
+            if isinstance(node, ast.Call):
+                asks = isinstance(node.func, ast.Name) and node.func.id in ("sorted", "len") and not node.keywords
+                parts = node.args if asks else []
+            else:
+                parts = [node.left] + node.comparators
+            for part in parts:
+                part.holds_set = True
+        for where, node in self.nodes(ast.Call):
+            if isinstance(node.func, ast.Name) and node.func.id in ("set", "frozenset"):
+                self.assertTrue(getattr(node, "holds_set", False), where)
+
+    def test_no_two_files_draw_from_one_another(self):
+        drawn = {}
+        for name, tree in self.trees.items():
+            rows = [part for part in tree.body if isinstance(part, ast.ImportFrom)]
+            drawn[name] = {part.module.partition(".")[2] + ".py" for part in rows}
+        self.assertEqual(drawn["__init__.py"], set())
+        while drawn:
+            ready = [name for name in drawn if not drawn[name] & set(drawn)]
+            self.assertTrue(ready, sorted(drawn))
+            for name in ready:
+                drawn.pop(name)
 
     def test_methods(self):
         known = METHODS | own_methods(self.trees.values()) | DOUBLE

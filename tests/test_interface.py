@@ -10,6 +10,17 @@ COUNTS = {
         "with_meeting": 4, "without_meeting": 2, "with_times": 4, "moved": 3, "stretched": 3,
     },
     "loads": {"load_at": 2, "most_at_once": 1, "tight_moment": 1, "busy": 1, "steps": 1, "worth_of": 1},
+    "columns": {
+        "groups": 1, "group_of": 2, "columns": 1, "width_of": 2, "part_of": 2, "boxes": 1, "name_at_place": 4,
+        "is_laid": 2, "do_cross": 2,
+    },
+    "days": {
+        "day_of": 1, "days_of": 1, "pieces": 1, "long_ones": 1, "short_ones": 1, "day_sheet": 2, "bars": 3,
+        "rows_needed": 3, "hidden": 4, "is_long": 1,
+    },
+    "zones": {
+        "is_zone": 1, "shown_at": 2, "moments_shown": 2, "first_shown": 2, "jumps": 1, "tidy_zone": 1, "between": 3,
+    },
 }
 
 
