@@ -21,6 +21,11 @@ COUNTS = {
     "zones": {
         "is_zone": 1, "shown_at": 2, "moments_shown": 2, "first_shown": 2, "jumps": 1, "tidy_zone": 1, "between": 3,
     },
+    "gaps": {"gaps": 3, "long_gaps": 4, "common_gaps": 3, "first_time": 4, "busy_at": 3, "best_time": 4},
+    "choosing": {
+        "most_apart": 1, "fewest_moments": 1, "weightiest": 2, "are_apart": 1, "are_met": 2, "is_paper": 3,
+    },
+    "rooms": {"rooms_needed": 1, "room_plan": 2, "fitting_plan": 3, "room_changes": 3},
 }
 
 
