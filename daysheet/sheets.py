@@ -19,6 +19,10 @@ def is_name(thing):
     return all(["a" <= letter <= "z" for letter in thing])
 
 
+def is_rising(row):
+    return row == sorted(set(row))
+
+
 def are_times(begin, end):
     return is_whole(begin) and is_whole(end) and 0 <= begin < end <= LAST_END
 
@@ -35,8 +39,7 @@ def is_sheet(thing):
     # Names can be put in order only once all parts are known to be meetings.
     if not all([is_meeting(part) for part in thing]):
         return False
-    names = names_of(thing)
-    return names == sorted(set(names))
+    return is_rising(names_of(thing))
 
 
 def names_of(sheet):
@@ -76,14 +79,21 @@ def with_times(sheet, name, begin, end):
     return tuple([new if meeting[0] == old[0] else meeting for meeting in sheet])
 
 
+def later(moment, by):
+    # Python would add a truth as 0 or 1.
+    if not is_whole(by):
+        raise NoTime("no meeting can be moved by what is no whole number")
+    return moment + by
+
+
 def moved(sheet, name, by):
     meeting = meeting_of(sheet, name)
-    return with_times(sheet, name, meeting[1] + by, meeting[2] + by)
+    return with_times(sheet, name, later(meeting[1], by), later(meeting[2], by))
 
 
 def stretched(sheet, name, by):
     meeting = meeting_of(sheet, name)
-    return with_times(sheet, name, meeting[1], meeting[2] + by)
+    return with_times(sheet, name, meeting[1], later(meeting[2], by))
 
 
 def overlap(one, other):

@@ -1,7 +1,7 @@
 """Zones: what is added to moments to show them, with jumps."""
 
 from daysheet.errors import NoZone
-from daysheet.sheets import is_whole
+from daysheet.sheets import is_rising, is_whole
 
 MOST_ROWS = 5
 MOST_MORE = 24
@@ -13,17 +13,14 @@ def is_row(thing):
     return is_whole(thing[1]) and -MOST_MORE <= thing[1] <= MOST_MORE
 
 
-def are_rising(moments):
-    # Only whole numbers can be put in order.
-    return all([is_whole(moment) for moment in moments]) and moments == sorted(set(moments))
-
-
 def is_zone(thing):
     if not isinstance(thing, tuple) or not 1 <= len(thing) <= MOST_ROWS:
         return False
     if not all([is_row(part) for part in thing]):
         return False
-    return thing[0][0] is None and are_rising([moment for moment, more in thing[1:]])
+    moments = [moment for moment, more in thing[1:]]
+    # Only whole numbers can be put in order.
+    return thing[0][0] is None and all([is_whole(moment) for moment in moments]) and is_rising(moments)
 
 
 def refuse_no_zone(thing):

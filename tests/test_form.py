@@ -79,6 +79,10 @@ def own_methods(trees):
     return {part.name for node in classes for part in node.body if isinstance(part, ast.FunctionDef)}
 
 
+def names_of_pythons_values():
+    return {name for value in ("", 0, [], (), {}, set(), b"") for name in dir(value)}
+
+
 class FormTest(unittest.TestCase):
     def setUp(self):
         self.texts = {path.name: path.read_bytes().decode("ascii") for path in FILES}
@@ -188,6 +192,24 @@ class FormTest(unittest.TestCase):
         for where, node in self.nodes(ast.Call):
             if isinstance(node.func, ast.Attribute):
                 self.assertIn(node.func.attr, known, where)
+
+    def test_names_of_own_methods_and_values(self):
+        methods = own_methods(self.trees.values()) - DOUBLE
+        self.assertEqual(methods & (names_of_pythons_values() - METHODS - {"add", "discard"}), set())
+        for where, node in self.nodes(ast.Attribute):
+            if isinstance(node.ctx, ast.Store):
+                self.assertIsInstance(node.value, ast.Name, where)
+                self.assertNotIn(node.attr, methods | names_of_pythons_values(), where)
+
+    def test_classes(self):
+        for name, tree in self.trees.items():
+            tops = [part for part in tree.body if isinstance(part, ast.ClassDef)]
+            self.assertEqual(tops, [part for part in ast.walk(tree) if isinstance(part, ast.ClassDef)], name)
+        for where, node in self.nodes(ast.ClassDef):
+            self.assertLessEqual(len(node.bases), 1, where)
+            self.assertFalse(node.keywords, where)
+            for part in node.body:
+                self.assertIsInstance(part, (ast.FunctionDef, ast.Pass), where)
 
     def test_imports_come_from_the_file_that_defines_the_name(self):
         for where, node in self.nodes(ast.ImportFrom):

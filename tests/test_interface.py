@@ -26,6 +26,19 @@ COUNTS = {
         "most_apart": 1, "fewest_moments": 1, "weightiest": 2, "are_apart": 1, "are_met": 2, "is_paper": 3,
     },
     "rooms": {"rooms_needed": 1, "room_plan": 2, "fitting_plan": 3, "room_changes": 3},
+    "series": {
+        "is_series": 1, "goes_with_itself": 1, "times_of": 1, "as_sheet": 1, "without_time": 2, "parted": 2,
+        "first_clash": 2,
+    },
+    "texts": {"written": 1, "read": 1},
+    "comparing": {
+        "unlike_names": 2, "common": 2, "merged": 2, "shared_time": 2, "shifted": 2, "turned_about": 2,
+    },
+    "binders": {"Binder": 0, "binder_text": 1, "read_binder": 1},
+}
+BINDER = {
+    "lay": 2, "sheet_of": 1, "take": 1, "add": 4, "drop": 2, "shift": 2, "merge": 2, "names": 0, "back": 0, "forth": 0,
+    "marks": 0, "twin": 0,
 }
 
 
@@ -36,6 +49,12 @@ class InterfaceTest(unittest.TestCase):
             for name, count in counts.items():
                 with self.subTest(module=module, name=name):
                     self.assertEqual(len(inspect.signature(getattr(found, name)).parameters), count)
+
+    def test_binders_methods_and_their_arguments(self):
+        binder = importlib.import_module("daysheet.binders").Binder()
+        for name, count in BINDER.items():
+            with self.subTest(name=name):
+                self.assertEqual(len(inspect.signature(getattr(binder, name)).parameters), count)
 
 
 if __name__ == "__main__":

@@ -205,6 +205,13 @@ class MovedTest(unittest.TestCase):
             with self.subTest(by=by), self.assertRaises(NoTime):
                 moved((("a", 5, 15),), "a", by)
 
+    def test_truths_are_no_whole_numbers(self):
+        for by in (True, False):
+            with self.subTest(by=by), self.assertRaises(NoTime):
+                moved((("a", 5, 15),), "a", by)
+            with self.subTest(by=by), self.assertRaises(NoMeeting):
+                moved((("a", 5, 15),), "b", by)
+
     def test_no_meeting_comes_first(self):
         for by in (0, 1, -1000, 1000):
             with self.subTest(by=by), self.assertRaises(NoMeeting):
@@ -226,6 +233,13 @@ class StretchedTest(unittest.TestCase):
         for by in (-10, -11, -1000, 466, 1000):
             with self.subTest(by=by), self.assertRaises(NoTime):
                 stretched((("a", 5, 15),), "a", by)
+
+    def test_truths_are_no_whole_numbers(self):
+        for by in (True, False):
+            with self.subTest(by=by), self.assertRaises(NoTime):
+                stretched((("a", 5, 15),), "a", by)
+            with self.subTest(by=by), self.assertRaises(NoMeeting):
+                stretched((("a", 5, 15),), "b", by)
 
     def test_no_meeting_comes_first(self):
         for by in (0, 1, -1000, 1000):
